@@ -1,0 +1,1 @@
+"""Farlanes: bijections of endless lanes that move far places by a constant."""
