@@ -1,4 +1,4 @@
-"""The rules of the language that can be read off the files; the others are kept by reading."""
+"""Some rules of the language that can be read off the files; the others are kept by reading."""
 
 import ast
 import builtins
