@@ -5,6 +5,10 @@ import unittest
 from farlanes.algebra import compose, inverse
 from farlanes.errors import BadLanes, NotBijective
 from farlanes.maps import MOST_GOALS, MOST_LANES, LaneMap, identity, lead, swap
+from farlanes.moments import moments
+from farlanes.orbits import place_at, roads, spot
+from farlanes.relations import exponent, order
+from farlanes.travel import advance
 from tests.samples import raised
 
 
@@ -37,6 +41,28 @@ class MapExamples(unittest.TestCase):
 class AlgebraExamples(unittest.TestCase):
     def test_compose_with_the_inverse(self):
         self.assertIs(compose(lead(2, 0, 1), inverse(lead(2, 0, 1))) == identity(2), True)
+
+
+class OrbitExamples(unittest.TestCase):
+    def test_roads_and_spots(self):
+        step = lead(2, 0, 1)
+        answers = [roads(step), spot(step, (0, 5)), place_at(step, ("road", 0, 3))]
+        self.assertEqual(answers, [[[(0, 1), (0, 0), (1, 0)]], ("road", 0, -4), (1, 1)])
+
+    def test_advance(self):
+        self.assertEqual(advance(lead(2, 0, 1), (0, 5), count=10 ** 18), (1, 999999999999999994))
+
+    def test_moments(self):
+        answers = [
+            moments(lead(2, 0, 1), [((0, 5), (1, 1))]),
+            moments(swap(1, (0, 0), (0, 2)), [((0, 2), (0, 0))]),
+        ]
+        self.assertEqual(answers, [("once", 7), ("every", 1, 2)])
+
+    def test_order_and_exponent(self):
+        turn = swap(1, (0, 0), (0, 2))
+        answers = [order(lead(2, 0, 1)), order(turn), exponent(turn, identity(1))]
+        self.assertEqual(answers, [None, 2, ("every", 0, 2)])
 
 
 if __name__ == "__main__":
