@@ -1,7 +1,7 @@
 """Composing, inverting and conjugating lane maps."""
 
 from farlanes.errors import OtherLanes
-from farlanes.maps import LaneMap, trimmed
+from farlanes.maps import LaneMap, rows_of
 
 
 def check_same_lanes(one, other):
@@ -17,16 +17,10 @@ def composed_drifts(first, second):
 
 def composed_rows(first, second):
     """The goals of the first map followed by the second one, also if they are more than a map may have."""
-    early = first.drifts()
-    bounds = first.bounds()
-    later = second.bounds()
-    rows = []
-    for lane, drift in enumerate(composed_drifts(first, second)):
-        # From here on a place is a tail place of the first map, and its image one of the second map.
-        end = max(bounds[lane], later[lane] - early[lane])
-        row = [second.goal(first.goal((lane, at))) for at in range(end)]
-        rows.append(trimmed(lane, drift, row))
-    return rows
+    # From these ends on a place is a tail place of the first map, and its image one of the second map.
+    limits = [bound - drift for bound, drift in zip(second.bounds(), first.drifts())]
+    ends = [max(bound, limit) for bound, limit in zip(first.bounds(), limits)]
+    return rows_of(composed_drifts(first, second), ends, lambda place: second.goal(first.goal(place)))
 
 
 def compose(first, second):

@@ -85,6 +85,11 @@ def trimmed(lane, drift, row):
     return row[:bound]
 
 
+def rows_of(drifts, ends, image):
+    """The goals of a map that moves the places from the ends on by the drifts and the others by a function."""
+    return [trimmed(lane, drifts[lane], [image((lane, at)) for at in range(end)]) for lane, end in enumerate(ends)]
+
+
 def part_text(drift, row):
     """The text of one lane: its drift and its goals."""
     return " ".join([str(drift)] + [f"{lane}.{at}" for lane, at in row])

@@ -85,6 +85,17 @@ class Tracks:
         kind, number, index = self.spots[(lane, near)]
         return (kind, number, index + (at - near) // pace)
 
+    def way(self, number):
+        """The lanes on which a road comes in and goes out."""
+        road = self.roads[number]
+        return (road[0][0], road[-1][0])
+
+    def outset(self, number):
+        """Where a road would stand at index 0 if it came all the way on the lane on which it goes out."""
+        road = self.roads[number]
+        lane, at = road[-1]
+        return at - self.paces[lane] * (len(road) - 1)
+
     def road_place(self, number, index):
         """The place of a road at any index."""
         road = self.roads[number]

@@ -1,7 +1,7 @@
 """Following places through any number of steps, and powers of lane maps."""
 
 from farlanes.algebra import inverse
-from farlanes.maps import LaneMap, check_place, check_width, trimmed
+from farlanes.maps import LaneMap, check_place, check_width, rows_of
 from farlanes.tracks import Tracks
 
 
@@ -18,11 +18,7 @@ def power(lane_map, exponent):
     drifts = [drift * exponent for drift in lane_map.drifts()]
     # A bound is at least minus the drift, so what is refused here is too wide, and the rest can be listed.
     check_width([max(0, -drift) for drift in drifts])
+    # From these ends on the steps meet no inner place.
+    ends = [bound + max(0, -drift) for bound, drift in zip(lane_map.bounds(), drifts)]
     tracks = Tracks(lane_map)
-    rows = []
-    for lane, bound in enumerate(lane_map.bounds()):
-        # From here on the steps meet no inner place.
-        end = bound + max(0, -drifts[lane])
-        row = [tracks.place_after((lane, at), exponent) for at in range(end)]
-        rows.append(trimmed(lane, drifts[lane], row))
-    return LaneMap(drifts, rows)
+    return LaneMap(drifts, rows_of(drifts, ends, lambda place: tracks.place_after(place, exponent)))

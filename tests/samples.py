@@ -1,9 +1,11 @@
 """Maps for the tests, and slow answers, taken place by place, to compare with."""
 
+import itertools
 import random
 
-from farlanes.algebra import conjugate
-from farlanes.maps import LaneMap
+from farlanes.algebra import compose, conjugate
+from farlanes.maps import LaneMap, swap
+from farlanes.orbits import spot
 
 FAR = 10 ** 29
 
@@ -221,3 +223,156 @@ def noted_places(made):
         for more in range(2 * abs(drift) + 3)
     ]
     return inner_places(made) + beside + far_places(made.lanes())
+
+
+def wired(lanes, wires):
+    """A map with a road for each wire (lane to come in on, lane to go out on, inner places behind the first one)."""
+    drifts, below, exits = [0] * lanes, [0] * lanes, [0] * lanes
+    for source, sink, more in wires:
+        drifts[source] -= 1
+        drifts[sink] += 1
+        below[sink] += more
+    goals = [[] for lane in range(lanes)]
+    for source, sink, more in wires:
+        first = len(goals[sink])
+        goals[sink] += [(sink, first + turn + 1) for turn in range(more)]
+        out = (sink, below[sink] + exits[sink])
+        exits[sink] += 1
+        if more:
+            goals[sink][-1] = out
+        goals[source].append((sink, first) if more else out)
+    return LaneMap(drifts, goals)
+
+
+def conjugate_pair(source, lanes, many):
+    """A map with so many roads, a conjugate of it, and the conjugator, which has drifts and inner places."""
+    one = LaneMap(*parts_of(source, one_way(source, lanes, many), 3))
+    one = with_cycles(source, one, [source.choice((1, 2, 2, 3)) for turn in range(source.randint(0, 3))])
+    by = LaneMap(*parts_of(source, balanced(source, lanes, 4), 4))
+    return one, conjugate(one, by), by
+
+
+def conjugate_pairs(seed, lanes, many, most=6):
+    """So many pairs of conjugate maps, with their conjugators."""
+    source = numbers(seed * 10 + lanes)
+    return [conjugate_pair(source, lanes, turn % (most + 1)) for turn in range(many)]
+
+
+def close_pairs(seed, lanes, many, most=6):
+    """Pairs of maps with the same drifts, equally many cycles of each length and equally many fixed places."""
+    source = numbers(seed * 10 + lanes)
+    found = []
+    while len(found) < many:
+        one, other, by = conjugate_pair(source, lanes, source.randint(1, most))
+        ends = [row[-1] for row in slow_roads(other)]
+        other = compose(other, swap(lanes, source.choice(ends), source.choice(ends)))
+        if source.random() < 0.3:
+            other = LaneMap(*parts_of(source, one.drifts(), 3))
+        if facts(one) == facts(other):
+            found.append((one, other))
+    return found
+
+
+def facts(made):
+    """The drifts, the lengths of the cycles, and the number of fixed inner places if no lane has drift zero."""
+    sizes = sorted(len(orbit) for orbit in slow_finite(made))
+    return made.drifts(), [size for size in sizes if size > 1], sizes.count(1) if 0 not in made.drifts() else 0
+
+
+def all_choices(drifts):
+    """All choices, ascending."""
+    return list(itertools.product(*[range(-drift) for drift in drifts if drift < 0]))
+
+
+def outset(made, row):
+    """The number e - t * q of a road with the exit e at index q, going out on a lane with drift t."""
+    lane, at = row[-1]
+    return at - made.drifts()[lane] * (len(row) - 1)
+
+
+def slow_gap(one, other, choice, own):
+    """The gap of a road for a choice, or None if its partner goes out on another lane, as the document has it."""
+    rows, others, drifts = slow_roads(one), slow_roads(other), one.drifts()
+    lane, at = rows[own][0]
+    rest = choice[[other_lane for other_lane, drift in enumerate(drifts) if drift < 0].index(lane)]
+    step = -drifts[lane]
+    partner = [row for row in others if row[0][0] == lane and (row[0][1] - at - rest) % step == 0][0]
+    if partner[-1][0] != rows[own][-1][0]:
+        return None
+    shift = (partner[0][1] - at - rest) // step
+    return outset(other, partner) - outset(one, rows[own]) + drifts[partner[-1][0]] * shift
+
+
+def slow_leaf(one, other, choice, leaf):
+    """Tell whether a leaf of the right form is right for a choice, as the document has it."""
+    rows, drifts = slow_roads(one), one.drifts()
+    numbers_of = list(leaf[1]) if leaf[0] == "ring" else list(leaf[1:])
+    if not all(0 <= number < len(rows) for number in numbers_of):
+        return False
+    gaps = {number: slow_gap(one, other, choice, number) for number in numbers_of}
+    if leaf[0] == "lane":
+        return gaps[leaf[1]] is None
+    if len(numbers_of) % 2 or not numbers_of or None in gaps.values():
+        return False
+    total = 0
+    for first, second in zip(numbers_of[::2], numbers_of[1::2]):
+        lane = rows[first][-1][0]
+        if rows[second][-1][0] != lane:
+            return False
+        apart = gaps[first] - gaps[second]
+        if leaf[0] == "part":
+            return apart % drifts[lane] != 0
+        if apart % drifts[lane]:
+            return False
+        total += apart // drifts[lane]
+    links = zip(numbers_of[1::2], numbers_of[2::2] + numbers_of[:1])
+    return total != 0 and all(rows[second][0][0] == rows[first][0][0] for second, first in links)
+
+
+def slow_plan(one, other, plan):
+    """Tell whether a plan holds, as the document has it."""
+    word, moves, pairs, rings = plan
+    rows, others, drifts = slow_roads(one), slow_roads(other), one.drifts()
+    mine = [row for row in slow_finite(one) if len(row) > 1]
+    theirs = [row for row in slow_finite(other) if len(row) > 1]
+    if word != "plan" or drifts != other.drifts() or len(moves) != len(drifts) or sum(moves):
+        return False
+    if sorted(pair[0] for pair in pairs) != list(range(len(others))) or len(pairs) != len(rows):
+        return False
+    if sorted(pair[0] for pair in rings) != list(range(len(theirs))) or len(rings) != len(mine):
+        return False
+    for row, (number, shift) in zip(rows, pairs):
+        source, sink, there = row[0][0], row[-1][0], others[number]
+        if (source, sink) != (there[0][0], there[-1][0]):
+            return False
+        if moves[source] != there[0][1] - row[0][1] + drifts[source] * shift:
+            return False
+        if moves[sink] != outset(other, there) - outset(one, row) + drifts[sink] * shift:
+            return False
+    for row, (number, shift) in zip(mine, rings):
+        if len(row) != len(theirs[number]) or not 0 <= shift < len(row):
+            return False
+    return facts(one) == facts(other)
+
+
+def plan_by(one, other, by):
+    """The plan of a conjugator."""
+    pairs = [spot(other, by.goal(row[0]))[1:] for row in slow_roads(one)]
+    rings = [spot(other, by.goal(row[0]))[1:] for row in slow_finite(one) if len(row) > 1]
+    return ("plan", by.drifts(), pairs, rings)
+
+
+def changed_plans(plan):
+    """The plan with each of its numbers one greater, and one less."""
+    word, moves, pairs, rings = plan
+    found = []
+    for by in (1, -1):
+        for at in range(len(moves)):
+            found.append((word, moves[:at] + [moves[at] + by] + moves[at + 1:], pairs, rings))
+        for at, (number, shift) in enumerate(pairs):
+            for pair in ((number + by, shift), (number, shift + by)):
+                found.append((word, moves, pairs[:at] + [pair] + pairs[at + 1:], rings))
+        for at, (number, shift) in enumerate(rings):
+            for pair in ((number + by, shift), (number, shift + by)):
+                found.append((word, moves, pairs, rings[:at] + [pair] + rings[at + 1:]))
+    return found

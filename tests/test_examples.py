@@ -3,7 +3,9 @@
 import unittest
 
 from farlanes.algebra import compose, inverse
+from farlanes.conjugacy import MOST_CHOICES, conjugacy, plan_image
 from farlanes.errors import BadLanes, NotBijective
+from farlanes.judging import is_plan
 from farlanes.maps import MOST_GOALS, MOST_LANES, LaneMap, identity, lead, swap
 from farlanes.moments import moments
 from farlanes.orbits import place_at, roads, spot
@@ -63,6 +65,24 @@ class OrbitExamples(unittest.TestCase):
         turn = swap(1, (0, 0), (0, 2))
         answers = [order(lead(2, 0, 1)), order(turn), exponent(turn, identity(1))]
         self.assertEqual(answers, [None, 2, ("every", 0, 2)])
+
+
+class ConjugacyExamples(unittest.TestCase):
+    def test_conjugacy(self):
+        answers = [conjugacy(identity(2), lead(2, 0, 1)), conjugacy(identity(1), swap(1, (0, 0), (0, 1)))]
+        self.assertEqual(answers, [("drift", 0), ("cycles", 2)])
+
+    def test_plan_image(self):
+        plan = ("plan", [-1, 1], [(0, 1)], [])
+        self.assertEqual(plan_image(lead(2, 0, 1), lead(2, 0, 1), plan, (0, 1)), (0, 0))
+
+    def test_is_plan(self):
+        step = lead(2, 0, 1)
+        answers = [is_plan(step, step, ("plan", [-1, 1], [(0, k)], [])) for k in (0, 1)]
+        self.assertEqual(answers, [False, True])
+
+    def test_the_limit(self):
+        self.assertEqual(MOST_CHOICES, 1000)
 
 
 if __name__ == "__main__":
