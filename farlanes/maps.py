@@ -1,6 +1,7 @@
 """Lane maps, and the simplest ones: the identity, swaps and leads."""
 
 from farlanes.errors import BadGoal, BadLane, BadLanes, BadPlace, NotBijective, TooWide
+from farlanes.numerals import place_text
 
 MOST_LANES = 6
 MOST_GOALS = 2000
@@ -92,7 +93,7 @@ def rows_of(drifts, ends, image):
 
 def part_text(drift, row):
     """The text of one lane: its drift and its goals."""
-    return " ".join([str(drift)] + [f"{lane}.{at}" for lane, at in row])
+    return " ".join([str(drift)] + [place_text(place) for place in row])
 
 
 class LaneMap:
@@ -160,6 +161,15 @@ def identity(lanes):
     return LaneMap([0] * lanes)
 
 
+def swap_bounds(lanes, one, other):
+    """The bounds of the map that exchanges two places."""
+    bounds = [0] * lanes
+    if one != other:
+        for lane, at in (one, other):
+            bounds[lane] = max(bounds[lane], at + 1)
+    return bounds
+
+
 def swap(lanes, one, other):
     """The map that exchanges two places."""
     check_lanes(lanes)
@@ -167,9 +177,7 @@ def swap(lanes, one, other):
     check_place(lanes, other)
     if one == other:
         return identity(lanes)
-    bounds = [0] * lanes
-    for lane, at in (one, other):
-        bounds[lane] = max(bounds[lane], at + 1)
+    bounds = swap_bounds(lanes, one, other)
     # Far places have too many places below them to be listed first.
     check_width(bounds)
     rows = [[(lane, at) for at in range(bound)] for lane, bound in enumerate(bounds)]

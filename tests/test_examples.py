@@ -4,13 +4,17 @@ import unittest
 
 from farlanes.algebra import compose, inverse
 from farlanes.conjugacy import MOST_CHOICES, conjugacy, plan_image
-from farlanes.errors import BadLanes, NotBijective
+from farlanes.errors import BadLanes, BadMove, BadSyntax, BadText, NotBijective
+from farlanes.expressions import MOST_SIGNS, format_tree, parse, simplified
 from farlanes.judging import is_plan
 from farlanes.maps import MOST_GOALS, MOST_LANES, LaneMap, identity, lead, swap
 from farlanes.moments import moments
+from farlanes.moves import from_moves
+from farlanes.notation import format_map, parse_map
 from farlanes.orbits import place_at, roads, spot
 from farlanes.relations import exponent, order
-from farlanes.travel import advance
+from farlanes.roots import root
+from farlanes.travel import advance, power
 from tests.samples import raised
 
 
@@ -83,6 +87,35 @@ class ConjugacyExamples(unittest.TestCase):
 
     def test_the_limit(self):
         self.assertEqual(MOST_CHOICES, 1000)
+
+
+class RootExamples(unittest.TestCase):
+    def test_root(self):
+        step = lead(2, 0, 1)
+        answers = [root(step, 2), root(swap(1, (0, 0), (0, 1)), 2), root(power(step, 2), 2)[1] == step]
+        self.assertEqual(answers, [("drift", 0), ("cycles", 2), True])
+
+
+class TextExamples(unittest.TestCase):
+    def test_from_moves(self):
+        self.assertEqual(raised(from_moves, 2, [("lead", 0, 1), ("lead", 0, 0)]), (BadMove, {"at": 1}))
+
+    def test_format_map_and_parse_map(self):
+        answers = [format_map(lead(2, 0, 1)), parse_map("-1 1.0 | 1") == lead(2, 0, 1)]
+        self.assertEqual(answers, ["-1 1.0 | 1", True])
+
+    def test_a_leading_zero(self):
+        self.assertEqual(raised(parse_map, "-1 1.0 | 01"), (BadText, {"at": 1}))
+
+    def test_format_tree_and_simplified(self):
+        answers = [format_tree(parse("(a*(b)) ^2^ -1")), format_tree(simplified(parse("a ^ 2 ^ 3 * identity")))]
+        self.assertEqual(answers, ["(a * b)^2^-1", "a^6"])
+
+    def test_parse(self):
+        self.assertEqual(raised(parse, "a * * b"), (BadSyntax, {"at": 4}))
+
+    def test_the_limit_of_signs(self):
+        self.assertEqual(MOST_SIGNS, 60)
 
 
 if __name__ == "__main__":
