@@ -4,16 +4,20 @@ import unittest
 
 from farlanes.algebra import compose, inverse
 from farlanes.conjugacy import MOST_CHOICES, conjugacy, plan_image
-from farlanes.errors import BadLanes, BadMove, BadSyntax, BadText, NotBijective
+from farlanes.desk import Desk
+from farlanes.errors import BadLanes, BadMove, BadSyntax, BadText, NotBijective, Stopped
 from farlanes.expressions import MOST_SIGNS, format_tree, parse, simplified
 from farlanes.judging import is_plan
+from farlanes.machine import compiled
 from farlanes.maps import MOST_GOALS, MOST_LANES, LaneMap, identity, lead, swap
 from farlanes.moments import moments
 from farlanes.moves import from_moves
 from farlanes.notation import format_map, parse_map
 from farlanes.orbits import place_at, roads, spot
+from farlanes.pages import page
 from farlanes.relations import exponent, order
 from farlanes.roots import root
+from farlanes.store import Store
 from farlanes.travel import advance, power
 from tests.samples import raised
 
@@ -116,6 +120,40 @@ class TextExamples(unittest.TestCase):
 
     def test_the_limit_of_signs(self):
         self.assertEqual(MOST_SIGNS, 60)
+
+
+class StoreExamples(unittest.TestCase):
+    def test_compiled(self):
+        program = [("load", "a"), ("lead", 0, 1), ("power", 2), ("compose",)]
+        self.assertEqual(compiled(parse("a * lead 0 1 ^ 2")), program)
+
+    def test_a_store(self):
+        store = Store(2)
+        store.put("a", (0, 2))
+        store.define("x", lead(2, 0, 1))
+        store.move("x", count=4)
+        answers = [store.where("a"), store.was("a", 1), store.first_time("x", {"a": (1, 9)})]
+        self.assertEqual(answers, [(1, 1), (0, 2), 8])
+
+    def test_repr_of_a_store(self):
+        store = Store(2)
+        store.put("a", (0, 2))
+        self.assertEqual(repr(store), "Store(2 lanes, 1 beads, 0 maps)")
+
+    def test_stopped(self):
+        store = Store(1)
+        self.assertEqual(raised(store.all_of, [("put", "a", (0, 0)), ("put", "b", (0, 0))]), (Stopped, {"at": 1}))
+
+    def test_page(self):
+        store = Store(2)
+        store.all_of([("put", "a", (0, 2)), ("define", "x", lead(2, 0, 1))])
+        self.assertEqual(page(store), "lanes 2\nmap x -1 1.0 | 1\nbead a 0.2\n")
+
+    def test_desk(self):
+        desk = Desk(Store(2))
+        self.assertEqual(desk.say("let x lead 0 1 ^ 3"), "done")
+        lines = ["show x", "order x", "alike x , x", "drop y", "let y 5"]
+        self.assertEqual([desk.say(line) for line in lines], ["-3 1.2 1.1 1.0 | 3", "none", "yes", "no NoMap", "what"])
 
 
 if __name__ == "__main__":

@@ -239,7 +239,8 @@ class Simplified(unittest.TestCase):
 
     def test_great_exponents(self):
         root = 10 ** 9
-        for one, other in ((root, root), (-root, root), (root, -root), (-root, -root), (MOST, -1), (-1, MOST), (2, MOST // 2)):
+        for one, other in ((root, root), (-root, root), (root, -root), (-root, -root), (MOST, -1), (-1, MOST),
+                           (2, MOST // 2)):
             self.assertEqual(simplified(("power", ("power", A, one), other)), ("power", A, one * other))
         # These two numbers have the least product that is too great.
         beyond = (10 ** 6 + 1, 10 ** 12 - 10 ** 6 + 1)

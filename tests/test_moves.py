@@ -44,6 +44,10 @@ def wrong_moves(lanes):
     found = [(), ("lead",), ("swap",), ("lead", 0), ("swap", place), good + (place,), ("lead", 0, last, 0)]
     found += [("turn",) + good[1:], ("Lead", 0, last), ("", 0, last), ("identity",), ("name", "a"), ("load", "a")]
     found += [("swap ", place, place), ("conjugate", place, place), (0, 0, last), (None, 0, last)]
+    found += [("swap", 0, last), ("lead", place, (last, 0)), ("swap", (0,), place), ("swap", place, (0, 0, 0)),
+              ("swap", (), ())]
+    found += [("lead", "0", last), ("swap", (0, "0"), place), ("swap", place, 0), ("lead", 0, place),
+              ("swap", [0, 0], place)]
     found += [("lead", lane, lane) for lane in (-1, 0, last, lanes, FAR)]
     for lane in (-1, -2, lanes, lanes + 1, FAR, -FAR):
         found += [("lead", lane, 0), ("lead", 0, lane), ("swap", (lane, 0), place), ("swap", place, (lane, 0))]
@@ -142,6 +146,11 @@ class Errors(unittest.TestCase):
             self.assertEqual(raised(from_moves, lanes, [one, wider]), WIDE)
             self.assertEqual(raised(from_moves, lanes, [one, wider, one, wider]), WIDE)
             self.assertTrue(from_moves(lanes, [one, one, wider, wider]) == identity(lanes))
+            # A lane that was changed and is plain again has no part in the width.
+            twice = [("swap", (lanes - 1, 0), (lanes - 1, 1))] * 2
+            self.assertEqual(len(from_moves(lanes, twice + [one, other])), 2000)
+            self.assertEqual(raised(from_moves, lanes, twice + [one, wider]), WIDE)
+            self.assertEqual(raised(from_moves, lanes, twice + [one, wider, wider]), WIDE)
 
     def test_the_first_moves_alone(self):
         """A composition of the first moves that is too wide is refused, whatever follows."""

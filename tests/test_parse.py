@@ -9,8 +9,8 @@ from tests.trees import MOST, TOKEN, drawn_tree, levels_of, slow_index, slow_tre
 
 A, B, C, D = [("name", letter) for letter in "abcd"]
 ODD_TOKENS = (
-    "* @ ^ ( ) a b identity lead swap 0 1 -1 -0 00 01 1.2 0.0 -1.0 1.-1 1. .1 . 1.2.3 A aB a1 , - + -- \n a\n longnames "
-    "1000000000000000000 1000000000000000001 -1000000000000000000 -1000000000000000001 0.1000000000000000000 "
+    "* @ ^ ( ) a b identity lead swap 0 1 -1 -0 00 01 1.2 0.0 -1.0 1.-1 1. .1 . 1.2.3 A aB a1 , - + -- \n a\n "
+    "longnames 1000000000000000000 1000000000000000001 -1000000000000000000 -1000000000000000001 0.1000000000000000000 "
     "0.1000000000000000001 | _ = 1e3 +1 leads ident"
 ).split(" ")
 

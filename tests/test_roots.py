@@ -160,7 +160,8 @@ class Widths(Checked):
             last = lanes - 1
             for degree in DEGREES:
                 many = 390 // degree * degree
-                for one, other in (((0, 398), (0, 399)), ((0, 0), (0, 399)), ((last, 2), (last, 3)), ((0, 5), (last, 6))):
+                for one, other in (((0, 398), (0, 399)), ((0, 0), (0, 399)), ((last, 2), (last, 3)),
+                                   ((0, 5), (last, 6))):
                     made = compose(swap(lanes, one, other), power(lead(lanes, 0, last), many))
                     self.assertIn(len(made), range(380, 401))
                     self.check(made, degree)
